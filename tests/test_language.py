@@ -1,0 +1,120 @@
+"""What can be seen by a plain look of the rules that the package's code keeps to."""
+
+import ast
+import pathlib
+import re
+import unittest
+
+PACKAGE = pathlib.Path(__file__).resolve().parent.parent / "ullage"
+STATEMENTS = (
+    ast.FunctionDef, ast.ClassDef, ast.ImportFrom, ast.Assign, ast.AugAssign, ast.If, ast.While, ast.For,
+    ast.Return, ast.Break, ast.Continue, ast.Pass, ast.Raise, ast.Try, ast.Expr,
+)
+BARRED = (
+    ast.SetComp, ast.DictComp, ast.GeneratorExp, ast.NamedExpr, ast.Starred, ast.Await, ast.Yield, ast.YieldFrom,
+    ast.Div, ast.MatMult,
+)
+PYTHONS_OWN = (
+    "len range enumerate zip min max sum abs sorted reversed int str bool list tuple dict set frozenset isinstance"
+    " ord repr any all divmod ValueError KeyError IndexError LookupError ZeroDivisionError StopIteration"
+).split()
+BARRED_WORDS = (
+    "type typing typing_extensions enum Enum IntEnum StrEnum Flag IntFlag Generic Protocol ABC ABCMeta namedtuple"
+    " NamedTuple TypedDict TYPE_CHECKING abstractmethod"
+).split()
+METHODS_WITH_UNDERSCORES = ("__init__", "__eq__", "__repr__", "__str__", "__len__")
+
+
+def files():
+    return sorted(path for path in PACKAGE.iterdir() if path.name != "__pycache__")
+
+
+def trees():
+    return [(path.name, ast.parse(path.read_text("ascii"))) for path in files()]
+
+
+def names_bound(tree):
+    bound = set()
+    for node in ast.walk(tree):
+        if isinstance(node, (ast.FunctionDef, ast.ClassDef)):
+            bound.add(node.name)
+        elif isinstance(node, ast.arg):
+            bound.add(node.arg)
+        elif isinstance(node, ast.alias):
+            bound.add(node.asname or node.name)
+        elif isinstance(node, ast.ExceptHandler) and node.name:
+            bound.add(node.name)
+        elif isinstance(node, ast.Name) and isinstance(node.ctx, ast.Store):
+            bound.add(node.id)
+    return bound
+
+
+class Language(unittest.TestCase):
+    def test_the_package_holds_python_files_alone(self):
+        self.assertIn("__init__.py", [path.name for path in files()])
+        for path in files():
+            self.assertTrue(path.is_file() and re.fullmatch(r"__init__\.py|[a-z][a-z0-9_]*\.py", path.name), path)
+
+    def test_signs_and_sizes(self):
+        for path in files():
+            text = path.read_text("utf-8")
+            self.assertRegex(text, r"\A[\n -~]*\Z", path)
+            lines = text.splitlines()
+            self.assertLessEqual(len(lines), 400, path)
+            self.assertLessEqual(max(len(line) for line in lines), 120, path)
+            for node in ast.walk(ast.parse(text)):
+                if isinstance(node, ast.FunctionDef):
+                    self.assertLessEqual(node.end_lineno - node.lineno + 1, 40, (path, node.name))
+
+    def test_barred_words_stand_nowhere(self):
+        for path in files():
+            text = path.read_text("ascii")
+            words = set(re.findall(r"\w+", text))
+            self.assertEqual(sorted(words & set(BARRED_WORDS)), [], path)
+            self.assertNotRegex(text, "dataclass|overload|contextmanager", path)
+
+    def test_imports_are_the_packages_own(self):
+        for name, tree in trees():
+            for node in ast.walk(tree):
+                self.assertNotIsInstance(node, ast.Import, name)
+                if isinstance(node, ast.ImportFrom):
+                    self.assertIn(node, tree.body, name)
+                    self.assertEqual(node.level, 0, name)
+                    self.assertRegex(node.module, r"\Aullage\.[a-z0-9_]+\Z", name)
+                    self.assertTrue((PACKAGE / (node.module.split(".")[1] + ".py")).is_file(), node.module)
+                    self.assertNotIn("*", [alias.name for alias in node.names], name)
+
+    def test_statements_and_expressions(self):
+        for name, tree in trees():
+            for node in ast.walk(tree):
+                where = (name, getattr(node, "lineno", None))
+                if isinstance(node, ast.stmt):
+                    self.assertIsInstance(node, STATEMENTS, where)
+                self.assertNotIsInstance(node, BARRED, where)
+                if isinstance(node, (ast.FunctionDef, ast.ClassDef)):
+                    self.assertEqual(node.decorator_list, [], where)
+                if isinstance(node, (ast.For, ast.While)):
+                    self.assertEqual(node.orelse, [], where)
+                if isinstance(node, ast.Assign):
+                    self.assertEqual(len(node.targets), 1, where)
+                if isinstance(node, ast.Constant):
+                    self.assertNotIsInstance(node.value, (float, complex, bytes), where)
+
+    def test_powers_have_a_written_exponent(self):
+        for name, tree in trees():
+            for node in ast.walk(tree):
+                if isinstance(node, ast.BinOp) and isinstance(node.op, ast.Pow):
+                    self.assertIsInstance(node.right, ast.Constant, (name, node.lineno))
+
+    def test_names(self):
+        for name, tree in trees():
+            bound = names_bound(tree)
+            for word in bound:
+                self.assertTrue(word in METHODS_WITH_UNDERSCORES or not word.startswith("_"), (name, word))
+            self.assertEqual(sorted(bound & set(PYTHONS_OWN)), [], name)
+            read = {node.id for node in ast.walk(tree) if isinstance(node, ast.Name)}
+            self.assertEqual(sorted(read - bound - set(PYTHONS_OWN)), [], name)
+
+
+if __name__ == "__main__":
+    unittest.main()

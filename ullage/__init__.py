@@ -1,0 +1,1 @@
+"""Ullage: room left in pages, told by a tree."""
