@@ -1,7 +1,9 @@
-"""A second telling of shapes, by lists of pages alone, to hold the program against."""
+"""A second telling of shapes and trees, by lists of pages alone, to hold the program against."""
 
 SHAPES = [(pages, fan) for fan in (2, 3, 5, 8) for pages in list(range(0, 20)) + [25, 27, 28]]
 WIDE_SHAPES = [(200, 2), (200, 3), (199, 7), (200, 8)]
+FANS = range(2, 9)
+MOST = 10 ** 18
 ODD_THINGS = [True, False, "", "1", "a text", [], [1], [0, 0], (), (1,), (2, 2), {}, {1: 1}, None]
 
 
@@ -40,3 +42,54 @@ def things_that_are_no_nodes(shape):
         things += [(level, -1), (level, -many - 1), (level, -10 ** 59)]
         things += [(level, many), (level, many + 1), (level, 10 ** 59)]
     return things
+
+
+def cover_by_words(nodes, begin, end):
+    """The nodes within the pages that have no parent within, by their begins."""
+    within = [node for node, pages in nodes.items() if begin <= pages[0] and pages[-1] < end]
+    told = []
+    for node in within:
+        above = [one for one in within if one[0] == node[0] + 1 and nodes[node][0] in nodes[one]]
+        if not above:
+            told.append(node)
+    return sorted(told, key=lambda node: nodes[node][0])
+
+
+def room_lists(pages):
+    """Rooms for so many pages: alike, rising, falling, mixed, great, and a single one among noughts."""
+    lists = [
+        [0] * pages,
+        [5] * pages,
+        list(range(pages)),
+        list(range(pages, 0, -1)),
+        [(7 * page * page + 3 * page) % 11 for page in range(pages)],
+        [(5 * page + page // 3) % 4 for page in range(pages)],
+        [MOST - (13 * page) % 7 for page in range(pages)],
+        [9 if page == pages // 2 else 0 for page in range(pages)],
+    ]
+    return [rooms for k, rooms in enumerate(lists) if rooms not in lists[:k]]
+
+
+def many_rooms(counts=(0, 1, 2, 3, 4, 7, 9, 13, 17)):
+    return [rooms for pages in counts for rooms in room_lists(pages)]
+
+
+def needs_for(rooms):
+    """0, each room, one less and one more, and what is above all."""
+    needs = {0, 1, MOST, MOST + 1, 10 ** 59}
+    for room in rooms:
+        needs |= {max(room - 1, 0), room, room + 1}
+    return sorted(needs)
+
+
+def tree_by_pages(rooms, fan):
+    """The whole tree: for each node the greatest room of the pages beneath it."""
+    return [[max(rooms[page] for page in held) for held in row] for row in rows_of_pages((len(rooms), fan))]
+
+
+def numbers_beyond(pages):
+    return (-1, -2, -pages - 1, -10 ** 59, pages, pages + 1, 2 * pages + 1, 10 ** 59)
+
+
+def things_that_are_no_rooms(most=MOST):
+    return ODD_THINGS + [-1, -most, -10 ** 59, most + 1, 2 * most + 1, 10 ** 59]

@@ -1,6 +1,6 @@
 import unittest
 
-from model import SHAPES, WIDE_SHAPES, pages_by_node
+from model import SHAPES, WIDE_SHAPES, cover_by_words, numbers_beyond, pages_by_node
 from ullage.covers import ancestors, cover, meeting
 from ullage.errors import NoPage
 
@@ -19,21 +19,6 @@ def fewest_nodes(ends, begin, end):
     for page in range(end - 1, begin - 1, -1):
         fewest[page] = 1 + min(fewest[stop] for stop in ends[page] if stop <= end)
     return fewest
-
-
-def by_the_words(nodes, begin, end):
-    """The nodes within the pages that have no parent within, by their begins."""
-    within = [node for node, pages in nodes.items() if begin <= pages[0] and pages[-1] < end]
-    told = []
-    for node in within:
-        above = [one for one in within if one[0] == node[0] + 1 and nodes[node][0] in nodes[one]]
-        if not above:
-            told.append(node)
-    return sorted(told, key=lambda node: nodes[node][0])
-
-
-def numbers_beyond(pages):
-    return (-1, -2, -pages - 1, -10 ** 59, pages, pages + 1, 2 * pages + 1, 10 ** 59)
 
 
 class Cover(unittest.TestCase):
@@ -55,7 +40,7 @@ class Cover(unittest.TestCase):
             for begin in range(shape[0] + 1):
                 for end in range(begin, shape[0] + 1):
                     told = self.held(shape, nodes, ends, begin, end)
-                    self.assertEqual(told, by_the_words(nodes, begin, end), (shape, begin, end))
+                    self.assertEqual(told, cover_by_words(nodes, begin, end), (shape, begin, end))
 
     def test_ranges_of_wide_shapes(self):
         for shape in WIDE_SHAPES:
@@ -64,7 +49,7 @@ class Cover(unittest.TestCase):
             for begin in list(range(0, shape[0], 23)) + [1, shape[0] - 1]:
                 for end in list(range(begin, shape[0], 19)) + [shape[0]]:
                     told = self.held(shape, nodes, ends, begin, end)
-                    self.assertEqual(told, by_the_words(nodes, begin, end), (shape, begin, end))
+                    self.assertEqual(told, cover_by_words(nodes, begin, end), (shape, begin, end))
 
     def test_written_out(self):
         self.assertEqual(cover((9, 2), 0, 9), [(4, 0)])

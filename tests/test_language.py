@@ -1,6 +1,7 @@
 """What can be seen by a plain look of the rules that the package's code keeps to."""
 
 import ast
+import builtins
 import pathlib
 import re
 import unittest
@@ -22,6 +23,15 @@ BARRED_WORDS = (
     "type typing typing_extensions enum Enum IntEnum StrEnum Flag IntFlag Generic Protocol ABC ABCMeta namedtuple"
     " NamedTuple TypedDict TYPE_CHECKING abstractmethod"
 ).split()
+METHODS = (
+    "append clear copy count endswith extend find get index insert isalnum isalpha isdigit islower isspace isupper"
+    " items join keys ljust lower lstrip partition pop remove replace reverse rfind rjust rpartition rsplit rstrip"
+    " setdefault split splitlines startswith strip update upper values zfill bit_length"
+).split()
+KEYWORDS = {
+    "sorted": ["key", "reverse"], "min": ["key", "default"], "max": ["key", "default"], "sum": ["start"],
+    "enumerate": ["start"], "zip": ["strict"],
+}
 METHODS_WITH_UNDERSCORES = ("__init__", "__eq__", "__repr__", "__str__", "__len__")
 
 
@@ -31,6 +41,29 @@ def files():
 
 def trees():
     return [(path.name, ast.parse(path.read_text("ascii"))) for path in files()]
+
+
+def drawn_from(tree):
+    return [node.module.split(".")[1] + ".py" for node in tree.body if isinstance(node, ast.ImportFrom)]
+
+
+def names_imported(tree):
+    return {alias.name for node in ast.walk(tree) if isinstance(node, ast.ImportFrom) for alias in node.names}
+
+
+def names_of_locals(tree):
+    """The names of all parameters and of all that is given a value within a function."""
+    found = set()
+    for one in ast.walk(tree):
+        if isinstance(one, (ast.FunctionDef, ast.Lambda)):
+            for node in ast.walk(one):
+                if isinstance(node, ast.arg):
+                    found.add(node.arg)
+                elif isinstance(node, ast.Name) and isinstance(node.ctx, ast.Store):
+                    found.add(node.id)
+                elif isinstance(node, ast.ExceptHandler) and node.name:
+                    found.add(node.name)
+    return found
 
 
 def names_bound(tree):
@@ -114,6 +147,53 @@ class Language(unittest.TestCase):
             self.assertEqual(sorted(bound & set(PYTHONS_OWN)), [], name)
             read = {node.id for node in ast.walk(tree) if isinstance(node, ast.Name)}
             self.assertEqual(sorted(read - bound - set(PYTHONS_OWN)), [], name)
+
+    def test_locals_have_names_of_their_own(self):
+        for name, tree in trees():
+            classes = {node.name for node in ast.walk(tree) if isinstance(node, ast.ClassDef)}
+            taken = names_imported(tree) | classes | set(dir(builtins))
+            self.assertEqual(sorted(names_of_locals(tree) & taken), [], name)
+
+    def test_no_two_files_draw_from_one_another(self):
+        drawn = {name: drawn_from(tree) for name, tree in trees()}
+        while drawn:
+            free = [name for name in drawn if not set(drawn[name]) & set(drawn)]
+            self.assertNotEqual(free, [], drawn)
+            for name in free:
+                drawn.pop(name)
+
+    def test_names_are_drawn_from_the_files_that_define_them_and_are_used(self):
+        for name, tree in trees():
+            read = {node.id for node in ast.walk(tree) if isinstance(node, ast.Name)}
+            self.assertEqual(sorted(names_imported(tree) - read), [], name)
+            for node in tree.body:
+                if isinstance(node, ast.ImportFrom):
+                    source = ast.parse((PACKAGE / (node.module.split(".")[1] + ".py")).read_text("ascii"))
+                    defined = names_bound(source) - names_imported(source)
+                    self.assertEqual(sorted({alias.name for alias in node.names} - defined), [], name)
+
+    def test_is_stands_beside_none_true_and_false(self):
+        for name, tree in trees():
+            for node in ast.walk(tree):
+                if isinstance(node, ast.Compare) and isinstance(node.ops[0], (ast.Is, ast.IsNot)):
+                    self.assertIn(ast.unparse(node.comparators[0]), ("None", "True", "False"), (name, node.lineno))
+
+    def test_methods_and_keywords(self):
+        own = {node.name for name, tree in trees() for node in ast.walk(tree) if isinstance(node, ast.FunctionDef)}
+        for name, tree in trees():
+            for node in ast.walk(tree):
+                if isinstance(node, ast.Call):
+                    if isinstance(node.func, ast.Attribute):
+                        self.assertIn(node.func.attr, set(METHODS) | own, (name, node.lineno))
+                    called = node.func.id if isinstance(node.func, ast.Name) else None
+                    for keyword in node.keywords:
+                        self.assertIn(keyword.arg, KEYWORDS.get(called, []), (name, node.lineno))
+
+    def test_texts_are_free_of_the_percent_sign(self):
+        for name, tree in trees():
+            for node in ast.walk(tree):
+                if isinstance(node, ast.Constant) and isinstance(node.value, str):
+                    self.assertNotIn("%", node.value, (name, node.lineno))
 
 
 if __name__ == "__main__":

@@ -29,9 +29,12 @@ def levels(shape):
 
 
 def is_node(shape, thing):
+    return is_counted_node(levels(shape), thing)
+
+
+def is_counted_node(counts, thing):
     if not isinstance(thing, tuple) or len(thing) != 2:
         return False
-    counts = levels(shape)
     if not is_between(thing[0], 0, len(counts) - 1):
         return False
     return is_between(thing[1], 0, counts[thing[0]] - 1)

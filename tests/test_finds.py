@@ -1,0 +1,115 @@
+import unittest
+
+from asking import Asking
+from model import FANS, many_rooms, needs_for, numbers_beyond, room_lists, tree_by_pages
+from ullage.errors import NoPage
+from ullage.finds import best, first, further, last, near, round_from, worst
+
+
+def pages_enough(rooms, need):
+    return [page for page in range(len(rooms)) if rooms[page] >= need]
+
+
+def least_of(pages, key):
+    """The page with the least key, of several the first; None of no pages."""
+    return min(pages, key=lambda page: (key(page), page)) if pages else None
+
+
+def searches(rooms, need):
+    """What the searches without a page tell, by a plain look at all rooms."""
+    pages = pages_enough(rooms, need)
+    return {
+        first: least_of(pages, lambda page: page),
+        last: least_of(pages, lambda page: -page),
+        best: least_of(pages, lambda page: rooms[page]),
+        worst: least_of(pages, lambda page: -rooms[page]),
+    }
+
+
+def searches_at(rooms, need, at):
+    pages = pages_enough(rooms, need)
+    return {
+        further: least_of([page for page in pages if page >= at], lambda page: page),
+        round_from: least_of(pages, lambda page: (page < at, page)),
+        near: least_of(pages, lambda page: abs(page - at)),
+    }
+
+
+class Finding(Asking):
+    """Points 5 and 16."""
+
+    def held(self, rooms, fan, needs, places):
+        tree = tree_by_pages(rooms, fan)
+        for need in needs:
+            for asked, page in searches(rooms, need).items():
+                self.tells_so(page, asked, tree, fan, need)
+            for at in places:
+                for asked, page in searches_at(rooms, need, at).items():
+                    self.tells_so(page, asked, tree, fan, need, at)
+
+    def test_against_a_plain_look(self):
+        for fan in FANS:
+            for rooms in many_rooms((0, 1, 2, 3, 5, 8, 9, 13)):
+                needs = needs_for(rooms)
+                self.held(rooms, fan, needs[:7] + needs[-5:], range(len(rooms)))
+
+    def test_every_row_of_small_rooms(self):
+        for fan in (2, 3):
+            for number in range(3 ** 5):
+                rooms = [number // 3 ** page % 3 for page in range(5)]
+                self.held(rooms, fan, (1, 2), range(5))
+
+    def test_wide_trees(self):
+        for fan in (2, 3, 8):
+            for rooms in room_lists(200)[2:]:
+                needs = needs_for(rooms)
+                self.held(rooms, fan, needs[::len(needs) // 5], (0, 1, 63, 64, 99, 100, 101, 128, 198, 199))
+
+    def test_one_page_far_off(self):
+        for fan in FANS:
+            for page in (0, 1, 77, 128, 199):
+                rooms = [9 if one == page else 4 for one in range(200)]
+                self.held(rooms, fan, (5, 9, 10), (0, 76, 77, 78, 127, 128, 129, 199))
+
+    def test_of_two_alike_near_the_lesser(self):
+        tree = tree_by_pages([0, 5, 0, 0, 0, 5, 0], 2)
+        self.assertEqual([near(tree, 2, 5, at) for at in range(7)], [1, 1, 1, 1, 5, 5, 5])
+        self.assertEqual(near(tree_by_pages([5, 0, 9], 2), 2, 5, 1), 0)
+        self.assertEqual(near(tree_by_pages([9, 0, 5], 3), 3, 5, 1), 0)
+        self.assertEqual(near(tree_by_pages([5, 0, 0, 5], 2), 2, 5, 2), 3)
+
+    def test_written_out(self):
+        tree = tree_by_pages([3, 7, 4, 7, 4], 2)
+        self.assertEqual((first(tree, 2, 4), last(tree, 2, 4)), (1, 4))
+        self.assertEqual((best(tree, 2, 4), worst(tree, 2, 4)), (2, 1))
+        self.assertEqual((best(tree, 2, 0), worst(tree, 2, 0)), (0, 1))
+        self.assertEqual((best(tree, 2, 5), worst(tree, 2, 8)), (1, None))
+        self.assertEqual((further(tree, 2, 5, 2), further(tree, 2, 5, 4)), (3, None))
+        self.assertEqual((round_from(tree, 2, 5, 2), round_from(tree, 2, 5, 4)), (3, 1))
+
+    def test_none_without_pages(self):
+        for fan in FANS:
+            for need in (0, 1, 10 ** 59):
+                for asked in (first, last, best, worst):
+                    self.tells_so(None, asked, [], fan, need)
+
+    def test_a_need_of_nought_is_met_by_a_room_of_nought(self):
+        for fan in FANS:
+            tree = tree_by_pages([0] * 9, fan)
+            told = [asked(tree, fan, 0) for asked in (first, last, best, worst)]
+            self.same(told, [0, 8, 0, 0])
+            for at in range(9):
+                self.same([asked(tree, fan, 0, at) for asked in (further, round_from, near)], [at] * 3)
+
+    def test_refuses_what_is_no_page(self):
+        for fan in FANS:
+            for rooms in many_rooms((0, 1, 2, 9)) + [[5] * 200]:
+                tree = tree_by_pages(rooms, fan)
+                for at in numbers_beyond(len(rooms)):
+                    for need in (0, 5, 10 ** 59):
+                        for asked in (further, round_from, near):
+                            self.refused(NoPage, asked, tree, fan, need, at)
+
+
+if __name__ == "__main__":
+    unittest.main()
