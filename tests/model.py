@@ -55,6 +55,22 @@ def cover_by_words(nodes, begin, end):
     return sorted(told, key=lambda node: nodes[node][0])
 
 
+def ends_by_begin(nodes):
+    """For each page the ends of the spans of these nodes that begin there."""
+    ends = {}
+    for pages in nodes.values():
+        ends.setdefault(pages[0], []).append(pages[-1] + 1)
+    return ends
+
+
+def fewest_nodes(ends, begin, end):
+    """For each page from begin to end, how many nodes at least have just the pages from it up to end."""
+    fewest = {end: 0}
+    for page in range(end - 1, begin - 1, -1):
+        fewest[page] = 1 + min(fewest[stop] for stop in ends[page] if stop <= end)
+    return fewest
+
+
 def room_lists(pages):
     """Rooms for so many pages: alike, rising, falling, mixed, great, and a single one among noughts."""
     lists = [
@@ -93,3 +109,46 @@ def numbers_beyond(pages):
 
 def things_that_are_no_rooms(most=MOST):
     return ODD_THINGS + [-1, -most, -10 ** 59, most + 1, 2 * most + 1, 10 ** 59]
+
+
+def pages_enough(rooms, need):
+    return [page for page in range(len(rooms)) if rooms[page] >= need]
+
+
+def page_by(pages, key):
+    """The page with the least key, of several the first; None of no pages."""
+    return min(pages, key=lambda page: (key(page), page)) if pages else None
+
+
+def searches(rooms, need):
+    """What the searches without a page to begin at tell, by a plain look at all rooms."""
+    pages = pages_enough(rooms, need)
+    return {
+        "first": page_by(pages, lambda page: page),
+        "last": page_by(pages, lambda page: -page),
+        "best": page_by(pages, lambda page: rooms[page]),
+        "worst": page_by(pages, lambda page: -rooms[page]),
+    }
+
+
+def searches_at(rooms, need, at):
+    pages = pages_enough(rooms, need)
+    return {
+        "further": page_by([page for page in pages if page >= at], lambda page: page),
+        "round_from": page_by(pages, lambda page: (page < at, page)),
+        "near": page_by(pages, lambda page: abs(page - at)),
+    }
+
+
+def ruled_out_further(pages, at, page):
+    """The pages that must be ruled out for page to be the first one from at on."""
+    return [one for one in range(at, pages) if page is None or one < page]
+
+
+def ruled_out_near(pages, at, page):
+    """The pages that must be ruled out for page to be the nearest one to at."""
+    if page is None:
+        return list(range(pages))
+    nearer = [one for one in range(pages) if abs(one - at) < abs(page - at)]
+    as_far = [one for one in range(pages) if page > at > one and at - one == page - at]
+    return as_far + nearer

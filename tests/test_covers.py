@@ -1,24 +1,10 @@
 import unittest
 
-from model import SHAPES, WIDE_SHAPES, cover_by_words, numbers_beyond, pages_by_node
+from model import (
+    SHAPES, WIDE_SHAPES, cover_by_words, ends_by_begin, fewest_nodes, numbers_beyond, pages_by_node,
+)
 from ullage.covers import ancestors, cover, meeting
 from ullage.errors import NoPage
-
-
-def ends_by_begin(shape):
-    """For each page the ends of the spans that begin there."""
-    ends = {}
-    for pages in pages_by_node(shape).values():
-        ends.setdefault(pages[0], []).append(pages[-1] + 1)
-    return ends
-
-
-def fewest_nodes(ends, begin, end):
-    """For each page from begin to end, how many nodes at least have just the pages from it up to end."""
-    fewest = {end: 0}
-    for page in range(end - 1, begin - 1, -1):
-        fewest[page] = 1 + min(fewest[stop] for stop in ends[page] if stop <= end)
-    return fewest
 
 
 class Cover(unittest.TestCase):
@@ -36,7 +22,7 @@ class Cover(unittest.TestCase):
     def test_each_range_of_shapes_of_many_sizes(self):
         for shape in SHAPES:
             nodes = pages_by_node(shape)
-            ends = ends_by_begin(shape)
+            ends = ends_by_begin(nodes)
             for begin in range(shape[0] + 1):
                 for end in range(begin, shape[0] + 1):
                     told = self.held(shape, nodes, ends, begin, end)
@@ -45,7 +31,7 @@ class Cover(unittest.TestCase):
     def test_ranges_of_wide_shapes(self):
         for shape in WIDE_SHAPES:
             nodes = pages_by_node(shape)
-            ends = ends_by_begin(shape)
+            ends = ends_by_begin(nodes)
             for begin in list(range(0, shape[0], 23)) + [1, shape[0] - 1]:
                 for end in list(range(begin, shape[0], 19)) + [shape[0]]:
                     told = self.held(shape, nodes, ends, begin, end)

@@ -1,38 +1,10 @@
 import unittest
 
 from asking import Asking
-from model import FANS, many_rooms, needs_for, numbers_beyond, room_lists, tree_by_pages
+from model import FANS, many_rooms, needs_for, numbers_beyond, room_lists, searches, searches_at, tree_by_pages
+from ullage import finds
 from ullage.errors import NoPage
 from ullage.finds import best, first, further, last, near, round_from, worst
-
-
-def pages_enough(rooms, need):
-    return [page for page in range(len(rooms)) if rooms[page] >= need]
-
-
-def least_of(pages, key):
-    """The page with the least key, of several the first; None of no pages."""
-    return min(pages, key=lambda page: (key(page), page)) if pages else None
-
-
-def searches(rooms, need):
-    """What the searches without a page tell, by a plain look at all rooms."""
-    pages = pages_enough(rooms, need)
-    return {
-        first: least_of(pages, lambda page: page),
-        last: least_of(pages, lambda page: -page),
-        best: least_of(pages, lambda page: rooms[page]),
-        worst: least_of(pages, lambda page: -rooms[page]),
-    }
-
-
-def searches_at(rooms, need, at):
-    pages = pages_enough(rooms, need)
-    return {
-        further: least_of([page for page in pages if page >= at], lambda page: page),
-        round_from: least_of(pages, lambda page: (page < at, page)),
-        near: least_of(pages, lambda page: abs(page - at)),
-    }
 
 
 class Finding(Asking):
@@ -41,11 +13,11 @@ class Finding(Asking):
     def held(self, rooms, fan, needs, places):
         tree = tree_by_pages(rooms, fan)
         for need in needs:
-            for asked, page in searches(rooms, need).items():
-                self.tells_so(page, asked, tree, fan, need)
+            for name, page in searches(rooms, need).items():
+                self.tells_so(page, getattr(finds, name), tree, fan, need)
             for at in places:
-                for asked, page in searches_at(rooms, need, at).items():
-                    self.tells_so(page, asked, tree, fan, need, at)
+                for name, page in searches_at(rooms, need, at).items():
+                    self.tells_so(page, getattr(finds, name), tree, fan, need, at)
 
     def test_against_a_plain_look(self):
         for fan in FANS:

@@ -72,8 +72,12 @@ def fault(tree, fan):
     return None
 
 
+def has_node(tree, thing):
+    return is_counted_node(counts_of(tree), thing)
+
+
 def tells(tree, node):
-    if not is_counted_node(counts_of(tree), node):
+    if not has_node(tree, node):
         raise NoNode("this is no node of the tree")
     return tree[node[0]][node[1]]
 
