@@ -152,3 +152,13 @@ def ruled_out_near(pages, at, page):
     nearer = [one for one in range(pages) if abs(one - at) < abs(page - at)]
     as_far = [one for one in range(pages) if page > at > one and at - one == page - at]
     return as_far + nearer
+
+
+def questions_beyond_the_pages():
+    """Trees, fans and needs, each with a number that is no page of the tree."""
+    for fan in FANS:
+        for rooms in many_rooms((0, 1, 2, 9)) + [[5] * 200]:
+            tree = tree_by_pages(rooms, fan)
+            for at in numbers_beyond(len(rooms)):
+                for need in (0, 5, 10 ** 59):
+                    yield tree, fan, need, at

@@ -1,7 +1,9 @@
 import unittest
 
 from asking import Asking
-from model import FANS, many_rooms, needs_for, numbers_beyond, room_lists, searches, searches_at, tree_by_pages
+from model import (
+    FANS, many_rooms, needs_for, questions_beyond_the_pages, room_lists, searches, searches_at, tree_by_pages,
+)
 from ullage import finds
 from ullage.errors import NoPage
 from ullage.finds import best, first, further, last, near, round_from, worst
@@ -74,13 +76,9 @@ class Finding(Asking):
                 self.same([asked(tree, fan, 0, at) for asked in (further, round_from, near)], [at] * 3)
 
     def test_refuses_what_is_no_page(self):
-        for fan in FANS:
-            for rooms in many_rooms((0, 1, 2, 9)) + [[5] * 200]:
-                tree = tree_by_pages(rooms, fan)
-                for at in numbers_beyond(len(rooms)):
-                    for need in (0, 5, 10 ** 59):
-                        for asked in (further, round_from, near):
-                            self.refused(NoPage, asked, tree, fan, need, at)
+        for asked in (further, round_from, near):
+            for tree, fan, need, at in questions_beyond_the_pages():
+                self.refused(NoPage, asked, tree, fan, need, at)
 
 
 if __name__ == "__main__":

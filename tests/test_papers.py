@@ -2,8 +2,8 @@ import unittest
 
 from asking import Asking
 from model import (
-    FANS, cover_by_words, ends_by_begin, fewest_nodes, many_rooms, needs_for, numbers_beyond, pages_by_node,
-    room_lists, ruled_out_further, ruled_out_near, searches, searches_at, tree_by_pages,
+    FANS, cover_by_words, ends_by_begin, fewest_nodes, many_rooms, needs_for, pages_by_node,
+    questions_beyond_the_pages, room_lists, ruled_out_further, ruled_out_near, searches, searches_at, tree_by_pages,
 )
 from ullage.errors import NoPage
 from ullage.judge import honest, shows_best, shows_first, shows_further, shows_near
@@ -162,13 +162,9 @@ class Papers(Asking):
                 self.tells_so((None, []), best_paper, [], fan, need)
 
     def test_refuses_what_is_no_page(self):
-        for fan in FANS:
-            for rooms in many_rooms((0, 1, 2, 9)) + [[5] * 200]:
-                tree = tree_by_pages(rooms, fan)
-                for at in numbers_beyond(len(rooms)):
-                    for need in (0, 5, 10 ** 59):
-                        for asked in (further_paper, near_paper):
-                            self.refused(NoPage, asked, tree, fan, need, at)
+        for asked in (further_paper, near_paper):
+            for tree, fan, need, at in questions_beyond_the_pages():
+                self.refused(NoPage, asked, tree, fan, need, at)
 
 
 if __name__ == "__main__":
