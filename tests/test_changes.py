@@ -104,6 +104,8 @@ class Counting(Asking):
                     self.tells_so(many, counted, tree, need)
                     for k in {0, 1, many // 2, max(many - 1, 0), many, many + 1, 10 ** 59}:
                         self.tells_so(pages[k] if k < many else None, nth, tree, need, k)
+                    for k in {-1, -2, -many, -many - 1, -10 ** 59} - {0}:
+                        self.tells_so(None, nth, tree, need, k)
 
     def test_written_out(self):
         tree = [[3, 1, 4, 3], [3, 4], [4]]
@@ -115,7 +117,7 @@ class Counting(Asking):
     def test_without_pages(self):
         for need in (0, 1, 10 ** 59):
             self.tells_so(0, counted, [], need)
-            for k in (0, 1, 10 ** 59):
+            for k in (0, 1, 10 ** 59, -1, -2, -10 ** 59):
                 self.tells_so(None, nth, [], need, k)
 
 

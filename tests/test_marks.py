@@ -158,6 +158,25 @@ class GreatScales(Asking):
                 self.tells_so(None, mark_for, scale, need)
                 self.tells_so(None, missed, scale, need)
 
+    def test_needs_below_nought(self):
+        for scale in SMALL_SCALES + GREAT_SCALES:
+            for need in (-1, -2, -5, -scale[0], -scale[0] - 1, -10 ** 59):
+                self.tells_so(0, mark_for, scale, need)
+                self.tells_so(None, missed, scale, need)
+
+    def test_marks_below_nought(self):
+        for scale in SMALL_SCALES + GREAT_SCALES:
+            for mark in (-1, -2, -5, -10 ** 59):
+                self.tells_so(0, least_of, scale, mark)
+
+    def test_scales_somewhat_beyond_the_bounds(self):
+        for size in (1, 2, 10, MOST + 1):
+            # By no bits at all each room has the mark 0, so every need above 0 misses all rooms.
+            self.same([mark_of((size, 0), room) for room in (0, size)], [0, 0])
+            self.same([least_of((size, 0), 0), mark_for((size, 0), 0), mark_for((size, 0), 1)], [0, 0, 1])
+            self.same([missed((size, 0), need) for need in (-1, 0, 1, size, size + 1)], [None, None, size, size, None])
+            self.same(mark_of((size, 17), size), 2 ** 17 - 1)
+
     def test_mark_of_refuses_what_is_no_room_of_the_scale(self):
         for scale in SMALL_SCALES[::7] + GREAT_SCALES:
             for thing in things_that_are_no_rooms(scale[0]):

@@ -25,7 +25,7 @@ def counted(tree, need):
 
 def nth(tree, need, k):
     pages = enough(tree, need)
-    if k < len(pages):
+    if 0 <= k < len(pages):
         return pages[k]
     return None
 

@@ -22,10 +22,16 @@ def greatest_mark(scale):
 def mark_of(scale, room):
     if not is_between(room, 0, scale[0]):
         raise BadRoom("this is no room of the scale")
+    return mark_unchecked(scale, room)
+
+
+def mark_unchecked(scale, room):
     return room * greatest_mark(scale) // scale[0]
 
 
 def least_of(scale, mark):
+    if mark <= 0:
+        return 0
     most = greatest_mark(scale)
     return (mark * scale[0] + most - 1) // most
 
@@ -33,7 +39,7 @@ def least_of(scale, mark):
 def mark_for(scale, need):
     if need > scale[0]:
         return None
-    if need == 0:
+    if need <= 0:
         return 0
     # Marks don't fall as rooms grow, so only the room right below need must be left out.
     return mark_of(scale, need - 1) + 1
@@ -43,7 +49,13 @@ def missed(scale, need):
     mark = mark_for(scale, need)
     if mark is None:
         return None
-    room = least_of(scale, mark) - 1
-    if room < need:
+    room = greatest_below(scale, mark)
+    if room < max(need, 0):
         return None
     return room
+
+
+def greatest_below(scale, mark):
+    if mark > greatest_mark(scale):
+        return scale[0]
+    return least_of(scale, mark) - 1
