@@ -162,3 +162,42 @@ def questions_beyond_the_pages():
             for at in numbers_beyond(len(rooms)):
                 for need in (0, 5, 10 ** 59):
                     yield tree, fan, need, at
+
+
+def mixed_numbers(seed, many, most):
+    """So many numbers from 0 to most, without order, the same ones for the same seed."""
+    numbers = []
+    state = seed * 7919 + 12345
+    for _ in range(many):
+        state = (state * 1103515245 + 12345) % 2 ** 31
+        numbers.append((state >> 8) % (most + 1))
+    return numbers
+
+
+def children_by_pages(nodes, node):
+    """The nodes one level beneath whose pages lie beneath this one."""
+    return [one for one in nodes if one[0] == node[0] - 1 and nodes[one][0] in nodes[node]]
+
+
+def told_by_node(tree):
+    return {(level, place): told for level, row in enumerate(tree) for place, told in enumerate(row)}
+
+
+def tree_by_node(told):
+    """The tree, as lists, of a dict with what each node tells."""
+    return [[told[node] for node in sorted(told) if node[0] == level] for level in sorted({node[0] for node in told})]
+
+
+def any_tree(seed, pages, fan, most):
+    """A tree of numbers without order, so seldom a whole one."""
+    return [mixed_numbers(seed + level, len(row), most) for level, row in enumerate(rows_of_pages((pages, fan)))]
+
+
+def safe_tree(seed, rooms, fan, most):
+    """A tree in which each page tells its room or somewhat more, each other node its children or more."""
+    nodes = pages_by_node((len(rooms), fan))
+    told = {}
+    for node, more in zip(nodes, mixed_numbers(seed, len(nodes), most)):
+        beneath = [told[child] for child in children_by_pages(nodes, node)] or [rooms[node[1]]]
+        told[node] = max(beneath) + more
+    return tree_by_node(told)

@@ -34,6 +34,10 @@ def level_above(level, fan):
 def checked_tree(tree, fan):
     if not is_tree(tree, fan):
         raise NotATree("this is no tree by the fan")
+    return copied(tree)
+
+
+def copied(tree):
     return [list(level) for level in tree]
 
 
@@ -76,9 +80,13 @@ def has_node(tree, thing):
     return is_counted_node(counts_of(tree), thing)
 
 
-def tells(tree, node):
-    if not has_node(tree, node):
+def check_has_node(tree, thing):
+    if not has_node(tree, thing):
         raise NoNode("this is no node of the tree")
+
+
+def tells(tree, node):
+    check_has_node(tree, node)
     return tree[node[0]][node[1]]
 
 
