@@ -32,6 +32,11 @@ KEYWORDS = {
     "sorted": ["key", "reverse"], "min": ["key", "default"], "max": ["key", "default"], "sum": ["start"],
     "enumerate": ["start"], "zip": ["strict"],
 }
+BARRED_NAMES = (
+    "register mro elements open input version_info with_traceback add_note attrgetter breakpoint builtins compile"
+    " copyright credits delattr dir eval exec exit gc getattr globals hasattr help id importlib license locals"
+    " methodcaller os quit setattr super type vars sys print format format_map"
+).split()
 METHODS_WITH_UNDERSCORES = ("__init__", "__eq__", "__repr__", "__str__", "__len__")
 
 
@@ -80,6 +85,18 @@ def names_bound(tree):
         elif isinstance(node, ast.Name) and isinstance(node.ctx, ast.Store):
             bound.add(node.id)
     return bound
+
+
+def methods_and_values():
+    """The names of all methods of the package's classes, and of all values that their objects are given."""
+    methods, values = set(), set()
+    for name, tree in trees():
+        for node in ast.walk(tree):
+            if isinstance(node, ast.ClassDef):
+                methods |= {one.name for one in node.body if isinstance(one, ast.FunctionDef)}
+            elif isinstance(node, ast.Attribute) and isinstance(node.ctx, ast.Store):
+                values.add(node.attr)
+    return methods, values
 
 
 class Language(unittest.TestCase):
@@ -188,6 +205,54 @@ class Language(unittest.TestCase):
                     called = node.func.id if isinstance(node.func, ast.Name) else None
                     for keyword in node.keywords:
                         self.assertIn(keyword.arg, KEYWORDS.get(called, []), (name, node.lineno))
+
+    def test_methods_and_values_of_objects(self):
+        methods, values = methods_and_values()
+        self.assertEqual(sorted(methods & values), [])
+        taken = {word for kind in (str, int, list, tuple, dict, set, bytes, ValueError) for word in dir(kind)}
+        self.assertEqual(sorted((methods - set(METHODS_WITH_UNDERSCORES) | values) & taken), [])
+        for name, tree in trees():
+            for node in ast.walk(tree):
+                if isinstance(node, ast.Attribute):
+                    self.assertIn(node.attr, methods | values | set(METHODS), (name, node.lineno))
+
+    def test_classes_stand_at_the_top_with_methods_alone(self):
+        for name, tree in trees():
+            for node in ast.walk(tree):
+                if isinstance(node, ast.ClassDef):
+                    self.assertIn(node, tree.body, name)
+                    self.assertLessEqual(len(node.bases), 1, name)
+                    for one in node.body:
+                        self.assertIsInstance(one, (ast.FunctionDef, ast.Pass), (name, one.lineno))
+
+    def test_a_name_is_bound_once_at_the_top(self):
+        for name, tree in trees():
+            bound = []
+            for node in tree.body:
+                if isinstance(node, (ast.FunctionDef, ast.ClassDef)):
+                    bound.append(node.name)
+                elif isinstance(node, ast.ImportFrom):
+                    bound += [alias.name for alias in node.names]
+                elif isinstance(node, ast.Assign):
+                    bound.append(node.targets[0].id)
+                else:
+                    self.assertIs(node, tree.body[0], (name, node.lineno))
+            self.assertEqual(len(bound), len(set(bound)), name)
+
+    def test_barred_names(self):
+        for name, tree in trees():
+            used = names_bound(tree) | {node.attr for node in ast.walk(tree) if isinstance(node, ast.Attribute)}
+            used |= {node.id for node in ast.walk(tree) if isinstance(node, ast.Name)}
+            self.assertEqual(sorted(used & set(BARRED_NAMES)), [], name)
+
+    def test_errors_are_made_on_the_spot_and_taken_by_name(self):
+        own = {node.name for node in ast.walk(dict(trees())["errors.py"]) if isinstance(node, ast.ClassDef)}
+        for name, tree in trees():
+            for node in ast.walk(tree):
+                if isinstance(node, ast.Raise):
+                    self.assertIn(node.exc.func.id, own, (name, node.lineno))
+                if isinstance(node, ast.ExceptHandler):
+                    self.assertIn(node.type.id, own, (name, node.lineno))
 
     def test_texts_are_free_of_the_percent_sign(self):
         for name, tree in trees():

@@ -83,6 +83,8 @@ class Rough(Asking):
         self.tells_so([[3, 3, -1], [3, -1], [3]], rough, (10, 2), 2, [11, 12, -1])
         self.tells_so(1, rough_first, (10, 2), 2, [-1, 11], 10)
         self.tells_so([], passed, (10, 2), [-1, 11], 10)
+        self.tells_so(None, rough_first, (10, 2), 2, [11, 12], 11)
+        self.tells_so([], passed, (10, 2), [11, 12], 11)
 
 
 class RoughFirst(Asking):
